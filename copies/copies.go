@@ -1,0 +1,27 @@
+// Package copies makes values again in memory of their own.
+package copies
+
+import (
+	"slices"
+
+	"parlance/api"
+)
+
+// each: a list of the copies of its elements.
+func each[T any](list []T, copy func(T) T) []T {
+	if len(list) == 0 {
+		return nil
+	}
+	out := make([]T, 0, len(list))
+	for _, x := range list {
+		out = append(out, copy(x))
+	}
+	return out
+}
+
+// Value: a value of JSON.
+func Value(v api.Value) api.Value {
+	v.Names = slices.Clone(v.Names)
+	v.Items = each(v.Items, Value)
+	return v
+}
