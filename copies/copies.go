@@ -25,3 +25,11 @@ func Value(v api.Value) api.Value {
 	v.Items = each(v.Items, Value)
 	return v
 }
+
+// Nodes: a tree's nodes.
+func Nodes(list []api.Node) []api.Node {
+	return each(list, func(n api.Node) api.Node {
+		n.Kids = slices.Clone(n.Kids)
+		return n
+	})
+}
