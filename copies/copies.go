@@ -33,3 +33,9 @@ func Nodes(list []api.Node) []api.Node {
 		return n
 	})
 }
+
+// Type: a type.
+func Type(t api.Type) api.Type {
+	t.Args = each(t.Args, Type)
+	return t
+}
