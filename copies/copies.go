@@ -39,3 +39,11 @@ func Type(t api.Type) api.Type {
 	t.Args = each(t.Args, Type)
 	return t
 }
+
+// Exports: names with types.
+func Exports(list []api.Export) []api.Export {
+	return each(list, func(x api.Export) api.Export {
+		x.Type = Type(x.Type)
+		return x
+	})
+}
