@@ -47,3 +47,14 @@ func Exports(list []api.Export) []api.Export {
 		return x
 	})
 }
+
+// Env: which types and constructors there are.
+func Env(e api.Env) api.Env {
+	return api.Env{Families: slices.Clone(e.Families), Cases: each(e.Cases, Case)}
+}
+
+// Case: a constructor.
+func Case(c api.Case) api.Case {
+	c.Arg = Type(c.Arg)
+	return c
+}
