@@ -58,3 +58,9 @@ func Case(c api.Case) api.Case {
 	c.Arg = Type(c.Arg)
 	return c
 }
+
+// Entry: what is known of a document.
+func Entry(e api.Entry) api.Entry {
+	e.Exports = Exports(e.Exports)
+	return e
+}
