@@ -2,6 +2,7 @@ package rpc
 
 import (
 	"parlance/api"
+	"parlance/build"
 	"parlance/copies"
 	"parlance/json"
 )
@@ -38,45 +39,30 @@ func fill(q *api.Request, params api.Value) bool {
 
 // parameters: the object out of which fill takes them.
 func parameters(q api.Request) api.Value {
-	b := object()
+	b := build.New()
 	switch q.Do {
 	case api.DoCancel:
-		b.put("id", copies.Value(q.Other))
+		b.Put("id", copies.Value(q.Other))
 		return b.Value
 	case api.DoShutdown:
 		return b.Value
 	}
-	b.put("uri", text(q.URI))
+	b.Put("uri", build.Text(q.URI))
 	switch q.Do {
 	case api.DoOpen:
-		b.put("version", number(q.Version))
-		b.put("text", text(q.Text))
+		b.Put("version", build.Number(q.Version))
+		b.Put("text", build.Text(q.Text))
 	case api.DoChange:
-		b.put("version", number(q.Version))
-		b.put("edits", list(q.Edits))
+		b.Put("version", build.Number(q.Version))
+		b.Put("edits", build.Array(q.Edits, build.Edit))
 	case api.DoHover, api.DoComplete, api.DoRename:
-		b.put("line", number(q.Line))
-		b.put("char", number(q.Char))
+		b.Put("line", build.Number(q.Line))
+		b.Put("char", build.Number(q.Char))
 	}
 	if q.Do == api.DoRename {
-		b.put("name", text(q.Name))
+		b.Put("name", build.Text(q.Name))
 	}
 	return b.Value
-}
-
-// list: edits as an array.
-func list(edits []api.Edit) api.Value {
-	v := api.Value{Kind: api.VArray}
-	for _, x := range edits {
-		b := object()
-		b.put("line", number(x.Line))
-		b.put("char", number(x.Char))
-		b.put("endLine", number(x.EndLine))
-		b.put("endChar", number(x.EndChar))
-		b.put("text", text(x.Text))
-		v.Items = append(v.Items, b.Value)
-	}
-	return v
 }
 
 // field: is there such a name, and is what stands there as it must be?

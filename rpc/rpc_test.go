@@ -5,8 +5,12 @@ import (
 	"testing"
 
 	"parlance/api"
+	"parlance/build"
 	"parlance/json"
 )
+
+func text(s string) api.Value { return build.Text(s) }
+func number(n int) api.Value  { return build.Number(n) }
 
 func value(t *testing.T, s string) api.Value {
 	t.Helper()
