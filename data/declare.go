@@ -41,7 +41,8 @@ func Declare(e api.Env, nodes []api.Node) (out api.Env, fault api.Fault) {
 
 // begin: a declaration of which nothing is taken in yet.
 func begin(e api.Env, nodes []api.Node) *declaration {
-	d := &declaration{nodes: nodes, env: copies.Env(e), families: map[string]int{}, cases: map[string]struct{}{}, ticks: map[string]int{}}
+	families, cases := make(map[string]int, len(e.Families)+1), make(map[string]struct{}, len(e.Cases))
+	d := &declaration{nodes: nodes, env: copies.Env(e), families: families, cases: cases, ticks: map[string]int{}}
 	for _, f := range e.Families {
 		d.families[f.Name] = f.Params
 	}
@@ -93,7 +94,7 @@ func (d *declaration) oneCase(of, n api.Node, parts []api.Node) {
 	if len(n.Kids) > 0 {
 		c.Has, c.Arg = true, d.typ(n.Kids[0])
 	}
-	if _, ok := Whole(c); !ok {
+	if _, ok := whole(c); !ok {
 		fail(api.FaultLarge, n)
 	}
 	d.env.Cases = append(d.env.Cases, c)
