@@ -8,13 +8,13 @@ import (
 )
 
 // each: a list of the copies of its elements.
-func each[T any](list []T, copy func(T) T) []T {
+func each[T any](list []T, again func(T) T) []T {
 	if len(list) == 0 {
 		return nil
 	}
 	out := make([]T, 0, len(list))
 	for _, x := range list {
-		out = append(out, copy(x))
+		out = append(out, again(x))
 	}
 	return out
 }
