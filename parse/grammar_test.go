@@ -52,8 +52,14 @@ type item struct {
 	name                    string
 }
 
-// firstWrong: the first token at which a row of words can't go on (Earley's way); len(words): only the end is wrong; -1: none.
+// firstWrong: the first token at which a row of words can't go on; len(words): only the end is wrong; -1: none.
 func firstWrong(all map[string][][]string, words []string) int {
+	at, _ := firstWrongDeep(all, words)
+	return at
+}
+
+// firstWrongDeep: that (Earley's way), and whether what is too deep might have begun there.
+func firstWrongDeep(all map[string][][]string, words []string) (int, bool) {
 	sets := []map[item]bool{{}}
 	for c := range all["Decl"] {
 		sets[0][item{choice: c, name: "Decl"}] = true
@@ -71,7 +77,7 @@ func firstWrong(all map[string][][]string, words []string) int {
 			}
 		}
 		empty := map[string]bool{"Names": true, "Ticks": true}
-		done := false
+		done, deep := false, false
 		next := map[item]bool{}
 		for len(work) > 0 {
 			x := work[len(work)-1]
@@ -102,6 +108,7 @@ func firstWrong(all map[string][][]string, words []string) int {
 			if want == "BAR" {
 				want = "|"
 			}
+			deep = deep || want == "DEEP"
 			if at < len(words) && words[at] == want {
 				x.dot++
 				next[x] = true
@@ -109,12 +116,12 @@ func firstWrong(all map[string][][]string, words []string) int {
 		}
 		if at == len(words) {
 			if done {
-				return -1
+				return -1, false
 			}
-			return at
+			return at, deep
 		}
 		if len(next) == 0 {
-			return at
+			return at, deep
 		}
 		sets = append(sets, next)
 	}
