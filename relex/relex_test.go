@@ -53,6 +53,10 @@ func TestRelex(t *testing.T) {
 		{"a (* b c", 7, 7, "*)", 1, 0},
 		{"a : b", 3, 3, "", 1, 1},
 		{"x #'a", 3, 4, "(*", 1, 0},
+		{"a b (* c *) d e", 2, 3, "(*", 0, 0},
+		{"a b (* c *) d e", 2, 3, "(* *)", 0, 2},
+		{"a b c *) d e", 2, 3, "(*", 0, 2},
+		{"a -\n> b", 2, 3, "- -", 0, 2},
 		{"", 0, 0, "x", 0, 0},
 	} {
 		got, front, end, e := Relex(c.s, lex.Lex(c.s), c.from, c.to, c.more)
@@ -66,7 +70,7 @@ func TestRelex(t *testing.T) {
 // P9.1 at many edits.
 func TestRelexAny(t *testing.T) {
 	r := rand.New(rand.NewSource(1))
-	words := []string{"a", "A", "0", "'", "_", " ", "(", "*", ")", "(*", "*)", "-", ">", ":", ";", ";;", "#", "\n", "let", "x'", "é"}
+	words := []string{"a", "A", "0", "'", "_", " ", "(", "*", ")", "(*", "*)", "-", ">", ":", ";", ";;", "#", "\n", " ", "let", "x'", "é"}
 	random := func(n int) string {
 		s := ""
 		for range r.Intn(n) {
@@ -74,7 +78,7 @@ func TestRelexAny(t *testing.T) {
 		}
 		return s
 	}
-	for range 200000 {
+	for range 100000 {
 		s, more := random(16), random(4)
 		from := r.Intn(len(s) + 1)
 		to := from + r.Intn(min(len(s)-from, 4)+1)
